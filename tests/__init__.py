@@ -1,0 +1,1 @@
+"""The tests of stillpanes; README.md says how to run them."""
