@@ -1,0 +1,144 @@
+"""What must exist by name: the error classes, the functions with their arguments, and the form of the files."""
+
+import ast
+import importlib
+import inspect
+import os
+import unittest
+
+from stillpanes import errors
+
+PACKAGE = os.path.dirname(os.path.abspath(errors.__file__))
+
+INTERFACE = {
+    "layouts": """is_layout(thing), is_group(layout, thing), is_split(layout, group, thing), last(layout),
+        exact(layout, group, width), grown(layout, group, low, high), whole_at(layout, group), lowest(layout),
+        finer(layout, many), cut_to(layout, width), merged(layout, split), led_on(layout),
+        joined_behind(layout, other)""",
+    "rules": """is_rules(thing), width_given(rules, pane, width), rule_layout(rules, last), free_at(rules, width),
+        stops(rules, last), by_shares(shares, last), even(panes, last), by_turns(mosts, last)""",
+    "boxes": """is_boxes(layout, thing), holder(layout, boxes, group), depth(layout, boxes, group),
+        deepest(layout, boxes), things_of(layout, boxes, group), partings(layout, boxes), tells_one(layout, boxes),
+        turned(layout, boxes, pane), borders(layout), box_more(layout, boxes, group),
+        box_less(layout, boxes, group)""",
+    "drawings": """is_drawing(layout, thing), is_row(layout, thing), are_limits(layout, thing),
+        pixels(layout, drawing, group, width), row_of(layout, drawing, group), off_at(layout, group, row, width),
+        off_of(layout, group, row), worst_at(layout, group, row), is_snug(layout, group, row),
+        keeps(layout, drawing, limits), first_broken(layout, drawing, limits)""",
+    "shown": """is_shown(layout, thing), trembles(shown), first_tremble(shown), gapes(shown), falls(shown),
+        shown_by(layout, drawing), drawing_of(layout, shown), shown_keeps(layout, shown, limits),
+        fewest_falls(layout, limits), least_shown(layout, limits), is_least_shown(layout, limits, thing),
+        levels(layout, limits), are_levels(layout, limits, thing)""",
+    "bounds": """bounds(layout, group, width, off), bare(layout, group, off), span(layout, group, number, off),
+        comes(row, number), in_spans(layout, group, row, off), least_row(layout, group, off),
+        most_row(layout, group, off), how_many_rows(layout, group, off), must(layout, split, low, high, off),
+        can(layout, split, low, high, off), slack(layout, split, row, low, high, off),
+        crowded(layout, split, row, off)""",
+}
+
+ERRORS = {"NoPlace": (LookupError, "place"), "BadText": (ValueError, "line"), "CanNot": (ValueError, None),
+          "TooMuch": (ValueError, None), "Unfit": (ValueError, None)}
+
+
+def listed_functions(text):
+    """The pairs (name, list of the names of the arguments) of a text of the interface."""
+    for node in ast.parse(" ".join(text.split()), mode="eval").body.elts:
+        yield node.func.id, [own.id for own in node.args]
+
+
+def trees():
+    """The pairs (file name, syntax tree) of the files of the package."""
+    for name in sorted(os.listdir(PACKAGE)):
+        if name.endswith(".py"):
+            with open(os.path.join(PACKAGE, name), encoding="utf-8") as file:
+                yield name, ast.parse(file.read())
+
+
+class ErrorClasses(unittest.TestCase):
+    def test_bases(self):
+        for name, (base, _) in ERRORS.items():
+            with self.subTest(name=name):
+                self.assertEqual(getattr(errors, name).__bases__, (base,))
+                self.assertEqual(getattr(errors, name).__module__, "stillpanes.errors")
+
+    def test_attributes_by_position_and_by_name(self):
+        for name, (_, attribute) in ERRORS.items():
+            kind = getattr(errors, name)
+            if attribute is None:
+                self.assertEqual(vars(kind()), {})
+                with self.assertRaises(TypeError):
+                    kind(1)
+                continue
+            for worth in (0, 7, -3, 10 ** 30):
+                with self.subTest(name=name, worth=worth):
+                    self.assertEqual(vars(kind(worth)), {attribute: worth})
+                    self.assertEqual(vars(kind(**{attribute: worth})), {attribute: worth})
+            with self.assertRaises(TypeError):
+                kind()
+
+    def test_caught_by_the_built_in_class(self):
+        for name, (base, attribute) in ERRORS.items():
+            with self.subTest(name=name):
+                with self.assertRaises(base):
+                    raise getattr(errors, name)(*([3] if attribute else []))
+
+
+class Names(unittest.TestCase):
+    def test_functions_and_arguments(self):
+        for module, text in INTERFACE.items():
+            loaded = importlib.import_module("stillpanes." + module)
+            for name, arguments in listed_functions(text):
+                with self.subTest(module=module, name=name):
+                    function = getattr(loaded, name)
+                    self.assertTrue(inspect.isfunction(function))
+                    self.assertEqual(function.__module__, loaded.__name__)
+                    self.assertEqual(list(inspect.signature(function).parameters), arguments)
+
+
+class Files(unittest.TestCase):
+    def test_sizes_and_signs(self):
+        for name, tree in trees():
+            with open(os.path.join(PACKAGE, name), encoding="utf-8") as file:
+                text = file.read()
+            with self.subTest(name=name):
+                self.assertLess(text.count("\n"), 400)
+                self.assertLessEqual(max(map(len, text.split("\n"))), 120)
+                self.assertLessEqual(set(text), set(map(chr, range(32, 127))) | {"\n"})
+                for node in ast.walk(tree):
+                    if isinstance(node, ast.FunctionDef):
+                        self.assertLessEqual(node.end_lineno - node.lineno, 39, node.name)
+
+    def test_imports(self):
+        library = {"math": {"gcd", "lcm"}}
+        for name, tree in trees():
+            for node in ast.walk(tree):
+                with self.subTest(name=name):
+                    self.assertNotIsInstance(node, ast.Import)
+                    if isinstance(node, ast.ImportFrom):
+                        self.assertIn(node, tree.body)
+                        if node.module in library:
+                            self.assertLessEqual({own.name for own in node.names}, library[node.module])
+                        else:
+                            self.assertEqual(node.module.split(".")[0], "stillpanes")
+                            self.assert_defined(node)
+
+    def assert_defined(self, node):
+        with open(os.path.join(PACKAGE, node.module.split(".")[1] + ".py"), encoding="utf-8") as file:
+            body = ast.parse(file.read()).body
+        names = {own.name for own in body if isinstance(own, (ast.FunctionDef, ast.ClassDef))}
+        self.assertLessEqual({own.name for own in node.names}, names)
+
+    def test_nothing_out_of_the_subset(self):
+        barred = (ast.AsyncFunctionDef, ast.AsyncFor, ast.AsyncWith, ast.Await, ast.Div, ast.MatMult)
+        for name, tree in trees():
+            for node in ast.walk(tree):
+                with self.subTest(name=name, line=getattr(node, "lineno", 0)):
+                    self.assertNotIsInstance(node, barred)
+                    if isinstance(node, ast.Constant):
+                        self.assertNotIsInstance(node.value, (float, complex))
+                    if isinstance(node, (ast.FunctionDef, ast.ClassDef)):
+                        self.assertFalse(node.name.startswith("__") and node.name != "__init__")
+
+
+if __name__ == "__main__":
+    unittest.main()
