@@ -85,11 +85,18 @@ def whole_at(layout, group):
 def lowest(layout):
     """The LAYOUT with the fewest parts that tells the same widths."""
     parts, rows = layout
+    common = _common_divisor(layout)
+    return parts // common, tuple([tuple([wide // common for wide in row]) for row in rows])
+
+
+def _common_divisor(layout):
+    """The greatest number by which the parts and all exact widths can be divided."""
+    parts, rows = layout
     common = parts
     for row in rows:
         for wide in row:
             common = gcd(common, wide)
-    return parts // common, tuple([tuple([wide // common for wide in row]) for row in rows])
+    return common
 
 
 def finer(layout, many):

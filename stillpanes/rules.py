@@ -36,8 +36,14 @@ def rule_layout(rules, last):
     for tops, below in windows:
         for top in tops:
             parts = lcm(parts, _lowered(top, below)[1])
-    rows = [[top * parts // below for top in tops] for tops, below in windows]
-    return parts, tuple(zip(*rows))
+    columns = [_in_parts(window, parts) for window in windows]
+    return parts, tuple(zip(*columns))
+
+
+def _in_parts(window, parts):
+    """What each pane has, in parts of a pixel, by what _given tells of a window."""
+    tops, below = window
+    return [top * parts // below for top in tops]
 
 
 def free_at(rules, width):

@@ -1,6 +1,6 @@
 """Shown tables: any widths that are drawn, and how few of their pixels can be lost again."""
 
-from stillpanes.basics import are_numbers, is_number_from, is_tuple_of, tupled
+from stillpanes.basics import are_numbers, is_number_from, is_tuple_of
 from stillpanes.bounds import bounds
 from stillpanes.drawings import off_of, row_of
 from stillpanes.errors import CanNot, TooMuch
@@ -182,7 +182,6 @@ def _one_less(stand):
 
 def _all_stands(layout, limits):
     """For each width the list of the stands of limits, ascending."""
-    limits = tupled(limits)
     lone = {group[0]: off for group, off in limits if len(group) == 1}
     wider = [(group, off) for group, off in limits if len(group) > 1]
     # all widths, for TooMuch() comes ahead of CanNot()

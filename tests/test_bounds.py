@@ -208,7 +208,8 @@ class MustAndCan(unittest.TestCase):
                 grows = row[high] - row[low]
                 self.assertEqual(answer(bounds.must, layout, split, low, high, off), least)
                 self.assertEqual(answer(bounds.can, layout, split, low, high, off), most)
-                self.assertEqual(answer(bounds.slack, layout, split, row, low, high, off), (grows - least, most - grows))
+                both = (grows - least, most - grows)
+                self.assertEqual(answer(bounds.slack, layout, split, row, low, high, off), both)
 
     def test_bare_elsewhere_does_not_matter(self):
         self.assertEqual(answer(bounds.must, THIRDS, PAIR, 0, 3, 0), 2)

@@ -73,8 +73,8 @@ class Things(unittest.TestCase):
         for layout in (LONE, POINT, THIRDS):
             for thing in WRONG + spoiled((0, 0, 1, 2)) + spoiled((0, 1, 2, 3)) + spoiled((0,)):
                 self.assertIs(answer(drawings.is_row, layout, thing), is_row_by_hand(layout, thing), thing)
-        for thing in ((0, 1, 1), (0, 1, 1, 1, 1), (0, 2, 2, 2), (0, 1, 0, 1), (1, 1, 1, 1), (0, 0, 0, True), (0, -1, 0, 0),
-                      [0, 0, 1, 1], (False, 0, 0, 0), (-1, 0, 0, 0)):
+        for thing in ((0, 1, 1), (0, 1, 1, 1, 1), (0, 2, 2, 2), (0, 1, 0, 1), (1, 1, 1, 1), (0, 0, 0, True),
+                      (0, -1, 0, 0), [0, 0, 1, 1], (False, 0, 0, 0), (-1, 0, 0, 0)):
             self.assertIs(answer(drawings.is_row, THIRDS, thing), False, thing)
 
     def test_are_limits(self):
@@ -135,8 +135,8 @@ class Offs(unittest.TestCase):
                     self.assertEqual(answer(drawings.off_of, layout, group, row), max(offs))
                     worst = next(width for width in range(final + 1) if offs[width] == max(offs))
                     self.assertEqual(answer(drawings.worst_at, layout, group, row), worst)
-                    near = all(row[width] in (wide(layout, group, width) // parts, -(-wide(layout, group, width) // parts))
-                               for width in range(final + 1))
+                    wides = [wide(layout, group, width) for width in range(final + 1)]
+                    near = all(many in (own // parts, -(-own // parts)) for many, own in zip(row, wides))
                     self.assertIs(answer(drawings.is_snug, layout, group, row), near)
 
     def test_just_a_pixel_is_not_snug(self):

@@ -7,8 +7,8 @@ import unittest
 
 from stillpanes import shown
 from tests.reckon import (CAN_NOT, FIVE, LONE, POINT, THIRDS, TOO_MUCH, WRONG, answer, drawings_to, final_of,
-                          groups_of, in_drawing, layout_by, layouts_by, limits_by, refusal, spoiled, sums_to,
-                          tiny_layouts, wide)
+                          groups_of, in_drawing, layout_by, layouts_by, limits_by, near_numbers, refusal, spoiled,
+                          sums_to, tiny_layouts, wide)
 
 SMALL = layouts_by(60, 30, 3, 3, 4) + [THIRDS, LONE, POINT]
 PANES = tuple(((pane,), 1) for pane in range(5))
@@ -241,6 +241,15 @@ class Fewest(unittest.TestCase):
         layout = (3, ((0, 0, 2, 4, 4), (0, 2, 2, 2, 3), (0, 1, 1, 1, 2), (0, 0, 1, 2, 3)))
         self.assertEqual(self.check_wide(layout, (((0, 1, 2), 1), ((0, 3), 2), ((2, 3), 1))), 2)
 
+    def test_least_by_a_stand_that_falls(self):
+        layout = (3, ((0, 2, 2, 2, 2, 2), (0, 0, 1, 1, 2, 4), (0, 1, 1, 1, 3, 3), (0, 0, 2, 5, 5, 6)))
+        self.check_wide(layout, (((0, 1, 2), 3), ((1, 3), 2), ((2, 3), 1)))
+        layout = (3, ((0, 0, 2, 2, 2, 2, 2, 2, 2, 2, 3), (0, 3, 4, 7, 7, 7, 7, 10, 13, 14, 14),
+                      (0, 0, 0, 0, 3, 6, 9, 9, 9, 11, 13)))
+        self.check_wide(layout, (((0, 1), 6), ((1, 2), 6)))
+        layout = (4, ((0, 0, 3, 3, 4, 4, 4, 7, 11), (0, 4, 5, 9, 9, 10, 14, 14, 14), (0, 0, 0, 0, 3, 6, 6, 7, 7)))
+        self.check_wide(layout, (((0,), 8), ((0, 1), 2)))
+
     def check_wide(self, layout, limits):
         """As check, by a way from stand to stand instead of all tables."""
         stands = stands_by_hand(layout, limits)
@@ -359,6 +368,28 @@ class Judges(unittest.TestCase):
         self.assertIs(answer(shown.is_least_shown, layout, (((0,), 1),), ((0, 1, 2, 3), (0, 0, 0, 0))), False)
 
 
+def count_there(layout, offs, width):
+    """How many tuples of pixels, together the width, keep the offs of lone panes there."""
+    ways = {0: 1}
+    for pane in range(len(layout[1])):
+        numbers = near_numbers(layout, (pane,), width, offs[(pane,)]) if (pane,) in offs else range(width + 1)
+        more = {}
+        for total, own in ways.items():
+            for many in numbers:
+                more[total + many] = more.get(total + many, 0) + own
+        ways = more
+    return ways.get(width, 0)
+
+
+def outcome_of(layout, limits):
+    """The name of the error class that fewest_falls raises, None if it raises none."""
+    try:
+        shown.fewest_falls(layout, limits)
+    except ValueError as error:
+        return type(error).__name__
+    return None
+
+
 class TooMuch(unittest.TestCase):
     # pane 0 has all: pane 1 and pane 2 may have up to what is told
     JUST = (((1,), 19), ((2,), 9))
@@ -407,6 +438,24 @@ class TooMuch(unittest.TestCase):
         self.refused(THIRDS, (((0,), 1), ((1,), 1), ((2,), 1)), CAN_NOT)
         self.refused(THIRDS, (((0,), 0),), CAN_NOT)
         self.refused(THIRDS, (((0,), 2), ((0, 1), 0)), CAN_NOT)
+
+    def test_exactly_above_200(self):
+        draw = random.Random(73)
+        seen = {True: 0, False: 0}
+        for _ in range(400):
+            panes = draw.randint(2, 5)
+            layout = layout_by(draw, panes, draw.randint(2, 24), draw.randint(1, 3))
+            limits = tuple(((pane,), draw.randint(0, 12)) for pane in range(panes) if draw.random() < 0.8)
+            many = [count_there(layout, dict(limits), width) for width in range(final_of(layout) + 1)]
+            error = outcome_of(layout, limits)
+            self.assertEqual(error, "TooMuch" if max(many) > 200 else "CanNot" if min(many) == 0 else None)
+            seen[max(many) > 200] += 1
+        self.assertGreater(min(seen.values()), 50)
+
+    def test_wherever_the_wide_pane_is(self):
+        for panes in itertools.permutations([tuple(range(41)), (0,) * 41, (0,) * 41, (0,) * 41]):
+            at = panes.index(tuple(range(41)))
+            self.assertEqual(answer(shown.fewest_falls, (1, panes), (((at,), 2),)), 0)
 
     def test_too_much_at_twelve_panes(self):
         rows = (tuple(range(0, 41)),) * 12
