@@ -105,19 +105,19 @@ def _ways_to(ways, pair, many):
 
 def must(layout, split, low, high, off):
     """By how many pixels at least ROWS of split grow together from low to high."""
-    return _must_from(_pairs_at(layout, split, low, high, off))
+    return must_from(_pairs_at(layout, split, low, high, off))
 
 
 def can(layout, split, low, high, off):
     """By how many pixels at most ROWS of split grow together from low to high."""
-    return _can_from(_pairs_at(layout, split, low, high, off))
+    return can_from(_pairs_at(layout, split, low, high, off))
 
 
 def slack(layout, split, row, low, high, off):
     """What row grows from low to high less must, and can less that."""
     ends = _pairs_at(layout, split, low, high, off)
     grows = row[high] - row[low]
-    return grows - _must_from(ends), _can_from(ends) - grows
+    return grows - must_from(ends), can_from(ends) - grows
 
 
 def _pairs_at(layout, split, low, high, off):
@@ -132,12 +132,12 @@ def _pairs_at(layout, split, low, high, off):
     return ends
 
 
-def _must_from(ends):
+def must_from(ends):
     """must by these pairs of BOUNDS."""
     return sum([max(0, at_high[0] - at_low[1]) for at_low, at_high in ends])
 
 
-def _can_from(ends):
+def can_from(ends):
     """can by these pairs of BOUNDS."""
     return sum([max(0, at_high[1] - at_low[0]) for at_low, at_high in ends])
 
@@ -162,8 +162,8 @@ def _presses_between(table, row, low, high):
     ends = [(pairs[low], pairs[high]) for pairs in table]
     grows = row[high] - row[low]
     found = []
-    if _must_from(ends) > grows:
+    if must_from(ends) > grows:
         found.append(("more", low, high))
-    if _can_from(ends) < grows:
+    if can_from(ends) < grows:
         found.append(("fewer", low, high))
     return found

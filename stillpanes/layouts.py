@@ -45,6 +45,16 @@ def all_panes(layout):
     return tuple(range(len(layout[1])))
 
 
+def split_group(split):
+    """The GROUP of which split is a SPLIT."""
+    return tuple(sorted([pane for group in split for pane in group]))
+
+
+def lone_split(group):
+    """The SPLIT of group into lone panes."""
+    return tuple([(pane,) for pane in group])
+
+
 def last(layout):
     """The LAST of layout."""
     return len(layout[1][0]) - 1

@@ -155,6 +155,29 @@ def pair_at(layout, group, width, off):
     return (found[0], found[-1]) if found else None
 
 
+def near_rows(layout, group, off):
+    """All ROWS off by at most off for group."""
+    return [row for row in rows_to(final_of(layout)) if off_by(layout, group, row) <= off]
+
+
+def presses_by_hand(layout, split, row, off):
+    """All PRESSES, word by word."""
+    widths = range(final_of(layout) + 1)
+    table = [[pair_at(layout, group, width, off) for width in widths] for group in split]
+    bares = [("bare", number, width) for number, pairs in enumerate(table) for width in widths if pairs[width] is None]
+    if bares:
+        return tuple(sorted(bares))
+    found = set()
+    for low, high in itertools.combinations(widths, 2):
+        least = sum(max(0, pairs[high][0] - pairs[low][1]) for pairs in table)
+        most = sum(max(0, pairs[high][1] - pairs[low][0]) for pairs in table)
+        if least > row[high] - row[low]:
+            found.add(("more", low, high))
+        if most < row[high] - row[low]:
+            found.add(("fewer", low, high))
+    return tuple(sorted(found))
+
+
 def is_whole(thing):
     return type(thing) is int
 
@@ -186,6 +209,8 @@ def spoiled(thing):
     others = [None, True, False, "0", "", -1, 0, 1, 2, 10 ** 40, (), [], (0,), (0, 1)]
     if type(thing) is int:
         return others + [thing + 1, thing - 1, -thing, (thing,), [thing]]
+    if type(thing) is str:
+        return others + [thing + " ", thing[:-1], thing.upper(), (thing,), [thing]]
     found = others + [list(thing), thing + thing[-1:], thing + (0,), thing + (None,), (thing,), [thing]]
     for at, own in enumerate(thing):
         ahead, behind = thing[:at], thing[at + 1:]

@@ -7,7 +7,8 @@ import unittest
 from stillpanes import bounds
 from stillpanes.drawings import off_of
 from tests.reckon import (CAN_NOT, FIVE, LONE, POINT, THIRDS, UNFIT, answer, final_of, groups_of, layouts_by,
-                          near_numbers, no_place, off_by, pair_at, refusal, rows_to, splits_of, tiny_layouts, wide)
+                          near_numbers, near_rows, no_place, off_by, pair_at, presses_by_hand, refusal, rows_to,
+                          splits_of, tiny_layouts)
 
 SMALL = layouts_by(50, 25, 3, 4, 6) + [THIRDS, LONE, POINT]
 PAIR = ((0,), (1,))
@@ -17,11 +18,6 @@ def offs_for(layout):
     """Offs from 0 to far above the LAST, all small ones."""
     parts, final = layout[0], final_of(layout)
     return sorted({*range(2 * parts + 1), parts * final, parts * final + 1, 3 * parts * (final + 1)})
-
-
-def near_rows(layout, group, off):
-    """All ROWS off by at most off for group."""
-    return [row for row in rows_to(final_of(layout)) if off_by(layout, group, row) <= off]
 
 
 def has_bare(layout, group, off):
@@ -37,24 +33,6 @@ def span_by_hand(layout, group, number, off):
         if pair is not None and pair[0] >= number:
             final = width
     return first, final
-
-
-def presses_by_hand(layout, split, row, off):
-    """All PRESSES, word by word."""
-    widths = range(final_of(layout) + 1)
-    table = [[pair_at(layout, group, width, off) for width in widths] for group in split]
-    bares = [("bare", number, width) for number, pairs in enumerate(table) for width in widths if pairs[width] is None]
-    if bares:
-        return tuple(sorted(bares))
-    found = set()
-    for low, high in itertools.combinations(widths, 2):
-        least = sum(max(0, pairs[high][0] - pairs[low][1]) for pairs in table)
-        most = sum(max(0, pairs[high][1] - pairs[low][0]) for pairs in table)
-        if least > row[high] - row[low]:
-            found.add(("more", low, high))
-        if most < row[high] - row[low]:
-            found.add(("fewer", low, high))
-    return tuple(sorted(found))
 
 
 class Bounds(unittest.TestCase):

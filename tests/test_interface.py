@@ -34,6 +34,27 @@ INTERFACE = {
         most_row(layout, group, off), how_many_rows(layout, group, off), must(layout, split, low, high, off),
         can(layout, split, low, high, off), slack(layout, split, row, low, high, off),
         crowded(layout, split, row, off)""",
+    "follow": """follows(layout, split, row, off), followed(layout, split, row, off), are_followed(layout, split, row,
+        off, thing), press(layout, split, row, off), is_press(layout, split, row, off, thing),
+        least_follow(layout, split, row), jumps(layout, split, row)""",
+    "sharp": """half_kept(layout, split, row), reach(layout, group, off), whatever_row(layout, split, off),
+        hardest_row(layout, split, off), is_hardest(layout, split, off, thing), sharp(parts, off, more)""",
+    "flat": """flat(layout, off), is_flat(layout, off, thing), earliest(layout, off), least_flat(layout),
+        flat_press(layout, off), is_flat_press(layout, off, thing), promise(many, parts), hardest(many)""",
+    "levels": """half_more(parts, off), promise_at(parts, depth), by_levels(layout, boxes), is_by_levels(layout, boxes,
+        thing), offs_by_depth(layout, boxes, drawing), first_over(layout, boxes, drawing), held(layout,
+        boxes, drawing), filled(layout, boxes, box, row), fills(layout, boxes, box, row, thing),
+        refilled(layout, boxes, drawing, box)""",
+    "partings": """by_theta(layout, group, theta), growth(layout, group, low, high), fits_row(layout, group, row),
+        why_unfit(layout, group, row), is_why_unfit(layout, group, row, thing), drawing_by(layout, group,
+        row), lowest_row(layout, group, wishes), highest_row(layout, group, wishes), all_rows(layout,
+        group), ring(layout, group, wishes), is_ring(layout, group, wishes, thing)""",
+    "bars": """barred(panes, boxes), low_high(low, high), low_high_cases(low, high), ranges(layout, boxes, limits),
+        cases(layout, boxes, limits), is_cases(layout, boxes, limits, thing)""",
+    "states": """states(layout, limits, width), falls_at(layout, limits), some_drawing(layout, limits),
+        least_drawing(layout, limits), how_many_drawings(layout, limits), drawing_at(layout, limits,
+        number), drawing_number(layout, limits, drawing), table(layout, limits), is_table(layout, limits,
+        thing), least_off(layout, limits, groups), drawing_of_least(layout, limits, groups)""",
 }
 
 ERRORS = {"NoPlace": (LookupError, "place"), "BadText": (ValueError, "line"), "CanNot": (ValueError, None),
@@ -109,7 +130,7 @@ class Files(unittest.TestCase):
                         self.assertLessEqual(node.end_lineno - node.lineno, 39, node.name)
 
     def test_imports(self):
-        library = {"math": {"gcd", "lcm"}}
+        library = {"math": {"comb", "gcd", "lcm"}, "itertools": {"combinations"}}
         for name, tree in trees():
             for node in ast.walk(tree):
                 with self.subTest(name=name):
