@@ -190,8 +190,6 @@ def _part(left, holders, step, is_great):
         lows[place] = max(lows[place], number + 1)
     else:
         highs[place] = min(highs[place], number)
-    if lows[place] > highs[place]:
-        return None
     if (lows, highs) == left[width]:
         return left
     return _narrowed(left[:width] + [(lows, highs)] + left[width + 1:], holders, [width])

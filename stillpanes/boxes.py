@@ -39,13 +39,13 @@ def depth(layout, boxes, group):
     """The DEPTH of group, one of boxes or a lone pane."""
     boxes, group = tupled(boxes), tupled(group)
     _check_held(boxes, group)
-    return _depth(boxes, group)
+    return depth_of(boxes, group)
 
 
 def deepest(layout, boxes):
     """The greatest DEPTH of a box or a lone pane."""
     boxes = tupled(boxes)
-    return max([_depth(boxes, group) for group in held_groups(layout, boxes)])
+    return max([depth_of(boxes, group) for group in held_groups(layout, boxes)])
 
 
 def things_of(layout, boxes, group):
@@ -59,6 +59,11 @@ def things_of(layout, boxes, group):
 def held_groups(layout, boxes):
     """The boxes and the lone panes, ascending; boxes are tuples."""
     return sorted(list(boxes) + [(pane,) for pane in all_panes(layout)])
+
+
+def depth_of(boxes, group):
+    """The DEPTH of a box or a lone pane."""
+    return 1 + len(_around(boxes, group))
 
 
 def _check_held(boxes, group):
@@ -75,11 +80,6 @@ def _around(boxes, group):
 def _holder(layout, boxes, group):
     """The holder of a box or a lone pane."""
     return min(_around(boxes, group), key=len, default=all_panes(layout))
-
-
-def _depth(boxes, group):
-    """The DEPTH of a box or a lone pane."""
-    return 1 + len(_around(boxes, group))
 
 
 def partings(layout, boxes):

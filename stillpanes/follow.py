@@ -83,9 +83,9 @@ def press(layout, split, row, off):
 
 def is_press(layout, split, row, off, thing):
     """Whether thing is a PRESS of row, for split, by off."""
-    if not is_tuple_of(thing, 3) or not isinstance(thing[0], str):
+    if not is_tuple_of(thing, 3) or not is_number(thing[1]) or not is_number(thing[2]):
         return False
-    return is_number(thing[1]) and is_number(thing[2]) and thing in crowded(layout, split, row, off)
+    return thing in crowded(layout, split, row, off)
 
 
 def least_follow(layout, split, row):

@@ -1,7 +1,7 @@
 """Level by level: each box's row followed by its things, and these by theirs."""
 
 from stillpanes.basics import are_numbers, tupled
-from stillpanes.boxes import deepest, depth, held_groups, things_of
+from stillpanes.boxes import deepest, depth_of, held_groups, things_of
 from stillpanes.drawings import is_drawing, off_of, off_row, row_of
 from stillpanes.errors import Unfit
 from stillpanes.flat import whole_row
@@ -60,7 +60,7 @@ def offs_by_depth(layout, boxes, drawing):
     boxes = tupled(boxes)
     offs = [0] * deepest(layout, boxes)
     for group in held_groups(layout, boxes):
-        at = depth(layout, boxes, group) - 1
+        at = depth_of(boxes, group) - 1
         offs[at] = max(offs[at], off_of(layout, group, row_of(layout, drawing, group)))
     return tuple(offs)
 
@@ -70,7 +70,7 @@ def first_over(layout, boxes, drawing):
     boxes = tupled(boxes)
     found = []
     for group in held_groups(layout, boxes):
-        own = depth(layout, boxes, group)
+        own = depth_of(boxes, group)
         offs = off_row(layout, group, row_of(layout, drawing, group))
         over = [width for width, off in enumerate(offs) if off > promise_at(layout[0], own)]
         if over:
@@ -130,7 +130,6 @@ def _check_box(boxes, box):
 
 def refilled(layout, boxes, drawing, box):
     """drawing, but the pixels of box go to the panes that filled tells for its ROW."""
-    boxes, box = tupled(boxes), tupled(box)
     row = row_of(layout, drawing, box)
     panes = filled(layout, boxes, box, row)
     again = list(drawing)

@@ -2,7 +2,7 @@
 
 from stillpanes.bounds import bounds_row, can_from, least_row, most_row, must_from
 from stillpanes.drawings import is_row, off_of
-from stillpanes.errors import CanNot, TooMuch, Unfit
+from stillpanes.errors import TooMuch, Unfit
 from stillpanes.follow import least_follow, most_behind
 from stillpanes.layouts import split_group
 

@@ -4,7 +4,7 @@ from stillpanes.basics import are_numbers, tupled
 from stillpanes.bounds import bounds
 from stillpanes.drawings import keeps
 from stillpanes.errors import CanNot, TooMuch
-from stillpanes.layouts import all_panes, check_width, last
+from stillpanes.layouts import check_width, last
 
 # as many states are looked through at each width
 MOST_STATES = 4000
@@ -52,11 +52,10 @@ def _next_stage(layout, limits, stage, width):
 
 def _panes_that_can(state, pairs):
     """The panes that can get a pixel behind state such that each group comes within its pair."""
-    panes = range(len(state))
+    panes = list(range(len(state)))
     for group, (least, most) in pairs:
+        # bounds never fall, and grow by one at most: so nobody has more than most, or lacks two
         many = sum([state[pane] for pane in group])
-        if many > most or many + 1 < least:
-            return []
         if many == most:
             panes = [pane for pane in panes if pane not in group]
         elif many < least:
@@ -92,7 +91,7 @@ def _steps_on(state, behind):
 def how_many_drawings(layout, limits):
     """How many DRAWINGS keep limits."""
     found = _stages(layout, limits, last(layout))
-    return _ways_on(found)[0][found[0][0]] if found[-1] else 0
+    return _ways_on(found)[0][found[0][0]]
 
 
 def some_drawing(layout, limits):
@@ -110,7 +109,7 @@ def drawing_at(layout, limits, number):
     found = _stages(layout, limits, last(layout))
     ways = _ways_on(found)
     state = found[0][0]
-    if not found[-1] or not 0 <= number < ways[0][state]:
+    if not 0 <= number < ways[0][state]:
         raise CanNot()
     drawing = []
     for behind in ways[1:]:

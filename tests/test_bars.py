@@ -176,6 +176,13 @@ class Ranges(unittest.TestCase):
             self.assertIs(answer(bars.is_cases, layout, boxes, limits, ()), pairs is None)
         self.assertEqual(fell, {True, False})
 
+    def test_a_box_grows_by_one_at_most(self):
+        # both panes could get, or need, a pixel at the same width; the box can't
+        layout = (2, ((0, 0, 1, 2), (0, 0, 1, 2), (0, 1, 1, 1), (0, 1, 1, 1)))
+        told = answer(bars.ranges, layout, ((0, 1),), (((0,), 1), ((1,), 1)))
+        self.assertEqual(told[1], ((0, 0), (0, 0), (1, 1), (2, 2)))
+        self.assertEqual(told[0], ((0, 0), (0, 0), (0, 1), (1, 1)))
+
     def test_edges(self):
         self.assertEqual(answer(bars.ranges, POINT, (), ()), (((0, 0),),) * 3)
         self.assertEqual(answer(bars.ranges, LONE, (), ()), (((0, 0), (1, 1), (2, 2), (3, 3)),))

@@ -1,6 +1,7 @@
 """What must exist by name: the error classes, the functions with their arguments, and the form of the files."""
 
 import ast
+import builtins
 import importlib
 import inspect
 import os
@@ -148,6 +149,18 @@ class Files(unittest.TestCase):
             body = ast.parse(file.read()).body
         names = {own.name for own in body if isinstance(own, (ast.FunctionDef, ast.ClassDef))}
         self.assertLessEqual({own.name for own in node.names}, names)
+
+    def test_names_mean_one_thing(self):
+        for name, tree in trees():
+            imported = {own.name for node in ast.walk(tree) if isinstance(node, ast.ImportFrom) for own in node.names}
+            read = {node.id for node in ast.walk(tree) if isinstance(node, ast.Name) and isinstance(node.ctx, ast.Load)}
+            self.assertLessEqual(imported, read, name)
+            for node in ast.walk(tree):
+                if isinstance(node, ast.FunctionDef):
+                    own = {it.arg for it in node.args.args}
+                    own |= {it.id for it in ast.walk(node) if isinstance(it, ast.Name) and isinstance(it.ctx, ast.Store)}
+                    with self.subTest(name=name, function=node.name):
+                        self.assertEqual(own & (imported | set(dir(builtins)) - {"_"}), set())
 
     def test_nothing_out_of_the_subset(self):
         barred = (ast.AsyncFunctionDef, ast.AsyncFor, ast.AsyncWith, ast.Await, ast.Div, ast.MatMult)

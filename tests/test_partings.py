@@ -5,11 +5,14 @@ import random
 import unittest
 
 from stillpanes import partings
+from stillpanes.bounds import how_many_rows
 from tests.reckon import (CAN_NOT, FIVE, LONE, POINT, THIRDS, TOO_MUCH, UNFIT, WRONG, answer, drawings_to, final_of,
                           groups_of, in_drawing, layout_by, layouts_by, no_place, off_by, pair_at, refusal, rows_to,
                           spoiled, tiny_layouts, wide)
 
-SMALL = layouts_by(120, 24, 4, 4, 6) + [THIRDS, LONE, POINT] + list(tiny_layouts(3, 2, 2))
+# two of four panes can be off by a pixel together, each of them by less
+QUARTERS = (4, ((0, 1, 2, 3, 4),) * 4)
+SMALL = layouts_by(120, 24, 4, 4, 6) + [THIRDS, LONE, POINT, QUARTERS] + list(tiny_layouts(3, 2, 2))
 TWO = (0, 1)
 WISHED = ((0, 1, 1, 1), (1, 3, 2, 2))
 
@@ -166,6 +169,11 @@ class Fits(unittest.TestCase):
 
     def test_how_many_rows_at_most(self):
         self.assertEqual(len(answer(partings.all_rows, self.joined((2, 2, 2, 2, 5, 5, 5)), (0,))), 2000)
+        # so that there are just 2,001 of them
+        first = (0, 3, 4, 5, 6, 9, 14, 17, 19, 21, 24, 27, 28, 31, 32, 32, 33, 38)
+        layout = (5, (first, tuple(width * 5 - own for width, own in enumerate(first))))
+        self.assertEqual(how_many_rows(layout, (0,), 4), 2001)
+        self.assertEqual(refusal(partings.all_rows, layout, (0,)), TOO_MUCH)
         self.assertEqual(refusal(partings.all_rows, self.joined((2, 7, 11, 13)), (0,)), TOO_MUCH)
         self.assertEqual(refusal(partings.all_rows, self.joined((2,) * 20), (1,)), TOO_MUCH)
 
