@@ -22,10 +22,15 @@ def _none_cross(groups):
     for at, group in enumerate(groups):
         # each with those ahead of it: so a long tuple is given up at an early pair
         for other in groups[:at]:
-            common = len([pane for pane in group if pane in other])
-            if common not in (0, len(group), len(other)):
+            if cross(group, other):
                 return False
     return True
+
+
+def cross(group, other):
+    """Whether two GROUPS have panes in common, and neither has all of the other one."""
+    common = len([pane for pane in group if pane in other])
+    return common not in (0, len(group), len(other))
 
 
 def holder(layout, boxes, group):

@@ -44,7 +44,7 @@ def _next_stage(layout, limits, stage, width):
     found = set()
     for state in stage:
         for pane in _panes_that_can(state, pairs):
-            found.add(_one_more(state, pane))
+            found.add(one_more(state, pane))
         if len(found) > MOST_STATES:
             raise TooMuch()
     return tuple(sorted(found))
@@ -63,7 +63,7 @@ def _panes_that_can(state, pairs):
     return panes
 
 
-def _one_more(state, pane):
+def one_more(state, pane):
     """state with a pixel more for pane."""
     return state[:pane] + (state[pane] + 1,) + state[pane + 1:]
 
@@ -73,16 +73,16 @@ def _ways_on(found):
     ways = [{state: 1 for state in found[-1]}]
     for stage in reversed(found[:-1]):
         behind = ways[-1]
-        ways.append({state: sum([many for _, many in _steps_on(state, behind)]) for state in stage})
+        ways.append({state: sum([many for _, many in steps_on(state, behind)]) for state in stage})
     ways.reverse()
     return ways
 
 
-def _steps_on(state, behind):
+def steps_on(state, behind):
     """The pairs (pane, ways) of the panes that lead from state to one of behind, ascending."""
     found = []
     for pane in range(len(state)):
-        more = _one_more(state, pane)
+        more = one_more(state, pane)
         if more in behind:
             found.append((pane, behind[more]))
     return found
@@ -113,12 +113,12 @@ def drawing_at(layout, limits, number):
         raise CanNot()
     drawing = []
     for behind in ways[1:]:
-        for pane, many in _steps_on(state, behind):
+        for pane, many in steps_on(state, behind):
             if number < many:
                 drawing.append(pane)
                 break
             number -= many
-        state = _one_more(state, drawing[-1])
+        state = one_more(state, drawing[-1])
     return tuple(drawing)
 
 
@@ -130,8 +130,8 @@ def drawing_number(layout, limits, drawing):
     state = found[0][0]
     number = 0
     for own, behind in zip(drawing, _ways_on(found)[1:]):
-        number += sum([many for pane, many in _steps_on(state, behind) if pane < own])
-        state = _one_more(state, own)
+        number += sum([many for pane, many in steps_on(state, behind) if pane < own])
+        state = one_more(state, own)
     return number
 
 

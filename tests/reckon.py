@@ -114,6 +114,27 @@ def limits_by(draw, layout):
     return tuple((group, draw.randint(0, 2 * layout[0])) for group in told)
 
 
+def capped(caps, final):
+    """Panes that are nowhere wide, and one that is as wide as the window; LIMITS by which they have so many pixels."""
+    parts = 3
+    rows = ((0,) * (final + 1),) * len(caps) + (tuple(parts * width for width in range(final + 1)),)
+    return (parts, rows), tuple(((pane,), parts * cap) for pane, cap in enumerate(caps))
+
+
+def some_limits(draw, layout):
+    """LIMITS of some kinds: few, many, of lone panes, close ones and far ones."""
+    kind = draw.randrange(4)
+    parts, panes = layout[0], len(layout[1])
+    if kind == 0:
+        return limits_by(draw, layout)
+    if kind == 1:
+        return tuple(((pane,), draw.choice((parts - 1, parts // 2, parts // 3))) for pane in range(panes))
+    groups = groups_of(panes)
+    told = sorted(draw.sample(groups, min(len(groups), draw.randint(1, 6))))
+    return tuple((group, draw.choice((parts - 1, parts, 2 * parts, parts // 2) if kind == 2 else (0, 10 ** 9)))
+                 for group in told)
+
+
 def sums_to(panes, total):
     """All tuples of so many numbers from 0 that come to total, ascending."""
     return [own for own in itertools.product(range(total + 1), repeat=panes) if sum(own) == total]
@@ -139,6 +160,19 @@ def in_drawing(drawing, group, width):
 
 def off_by(layout, group, row):
     return max(abs(many * layout[0] - wide(layout, group, width)) for width, many in enumerate(row))
+
+
+def off_at(layout, drawing, group, width):
+    return abs(in_drawing(drawing, group, width) * layout[0] - wide(layout, group, width))
+
+
+def off_in(layout, drawing, group):
+    return max(off_at(layout, drawing, group, width) for width in range(len(drawing) + 1))
+
+
+def is_kept(layout, drawing, limits):
+    """Whether a row of panes, of any length, keeps limits at each of its widths."""
+    return all(off_in(layout, drawing, group) <= off for group, off in limits)
 
 
 def near_numbers(layout, group, width, off):
@@ -235,6 +269,13 @@ def listed(told):
     return told
 
 
+def loosened(name, own):
+    """What is handed over by this name, with lists for tuples as far as that may be."""
+    if name == "things":
+        return list(own)
+    return own if name == "thing" else listed(own)
+
+
 def outcome(function, args, named):
     try:
         return "told", function(*args, **named)
@@ -245,13 +286,13 @@ def outcome(function, args, named):
 def told(function, *args):
     """The outcome of a call, ("told", result) or ("raised", name of the class, attributes).
 
-    Each call is made again with lists for tuples (but not for thing), and by the names of the arguments, and must come
-    to the same each time, of the same form, and leave what it is handed as it was.
+    Each call is made again with lists for tuples (but not for thing, nor within things), and by the names of the
+    arguments, and must come to the same each time, of the same form, and leave what it is handed as it was.
     """
     names = list(inspect.signature(function).parameters)
     assert len(names) == len(args), (function.__name__, names)
     first = outcome(function, args, {})
-    loose = [own if name == "thing" else listed(own) for name, own in zip(names, args)]
+    loose = [loosened(name, own) for name, own in zip(names, args)]
     kept = copy.deepcopy(loose)
     again = outcome(function, loose, {})
     by_name = outcome(function, (), dict(reversed(list(zip(names, loose)))))

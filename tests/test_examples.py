@@ -6,12 +6,13 @@ import inspect
 import os
 import unittest
 
-from stillpanes import (bars, bounds, boxes, drawings, errors, flat, follow, layouts, levels, partings, rules, sharp,
-                        shown, states)
+from stillpanes import (bars, bounds, boxes, changes, desk, drawings, errors, flat, follow, judge, layouts, levels,
+                        partings, people, rules, sharp, shown, states, texts, window, wishes)
 
 FOLDER = os.path.join(os.path.dirname(os.path.abspath(__file__)), "examples")
-MODULES = (errors, layouts, rules, boxes, drawings, shown, bounds, follow, sharp, flat, levels, partings, bars, states)
-SECTIONS = tuple(range(4, 17))
+MODULES = (errors, layouts, rules, boxes, drawings, shown, bounds, follow, sharp, flat, levels, partings, bars, states,
+           wishes, people, changes, window, texts, judge, desk)
+SECTIONS = tuple(range(4, 24))
 
 
 def steps_of(section):
@@ -41,45 +42,61 @@ def outcome(code, names):
 
 
 class ByName(ast.NodeTransformer):
-    """Hands each argument of a function of the package over by its name."""
+    """Hands each argument of a function, of the class, or of a method of the package over by its name."""
 
     def __init__(self, names):
         self.names = names
 
     def visit_Call(self, node):
         self.generic_visit(node)
-        function = self.names.get(node.func.id) if isinstance(node.func, ast.Name) else None
-        if not inspect.isfunction(function) or any(isinstance(own, ast.Starred) for own in node.args):
+        parameters = self.parameters_of(node.func)
+        if parameters is None or any(isinstance(own, ast.Starred) for own in node.args):
             return node
-        parameters = list(inspect.signature(function).parameters)
         named = [ast.keyword(arg=key, value=worth) for key, worth in zip(parameters, node.args)]
         assert len(named) == len(parameters), ast.unparse(node)
         return ast.Call(func=node.func, args=[], keywords=named)
 
+    def parameters_of(self, func):
+        """The names of the parameters, None where it is nothing of the package's."""
+        if isinstance(func, ast.Attribute) and func.attr in vars(window.Window):
+            return list(inspect.signature(vars(window.Window)[func.attr]).parameters)[1:]
+        own = self.names.get(func.id) if isinstance(func, ast.Name) else None
+        return list(inspect.signature(own).parameters) if inspect.isroutine(own) or inspect.isclass(own) else None
+
 
 def by_name(code, names):
-    """The same code with the arguments of the package's functions by name."""
+    """The same code with the arguments of what is the package's by name."""
     return ast.unparse(ast.fix_missing_locations(ByName(names).visit(ast.parse(code))))
 
 
 class Examples(unittest.TestCase):
-    def test_sections_in_order(self):
-        names = {}
+    def setUp(self):
+        self.package = {}
         for module in MODULES:
-            names.update({key: worth for key, worth in vars(module).items() if not key.startswith("_")})
-        package = dict(names)
+            self.package.update({key: worth for key, worth in vars(module).items() if not key.startswith("_")})
+
+    def test_by_position(self):
+        self.check_all(lambda code: code)
+
+    def test_by_name(self):
+        self.assertEqual(by_name("last(layout) + own.off((0, 1))", self.package),
+                         "last(layout=layout) + own.off(group=(0, 1))")
+        self.check_all(lambda code: by_name(code, self.package))
+
+    def check_all(self, changed):
+        """All examples, in order, each code changed so."""
+        names = dict(self.package)
         seen = 0
         for section in SECTIONS:
             for code, told in steps_of(section):
                 with self.subTest(section=section, code=code):
                     if not is_expression(code):
-                        exec(code, names)
+                        exec(changed(code), names)
                         self.assertEqual(told, [])
                         continue
-                    self.assertEqual(told, [outcome(code, names)])
-                    self.assertEqual(told, [outcome(by_name(code, package), names)])
+                    self.assertEqual(told, [outcome(changed(code), names)])
                     seen += 1
-        self.assertEqual(seen, 91)
+        self.assertEqual(seen, 137)
 
     def test_readme(self):
         path = os.path.join(FOLDER, os.pardir, os.pardir, "README.md")

@@ -7,7 +7,7 @@ import inspect
 import os
 import unittest
 
-from stillpanes import errors
+from stillpanes import errors, window
 
 PACKAGE = os.path.dirname(os.path.abspath(errors.__file__))
 
@@ -56,7 +56,27 @@ INTERFACE = {
         least_drawing(layout, limits), how_many_drawings(layout, limits), drawing_at(layout, limits,
         number), drawing_number(layout, limits, drawing), table(layout, limits), is_table(layout, limits,
         thing), least_off(layout, limits, groups), drawing_of_least(layout, limits, groups)""",
+    "wishes": """are_wishes(layout, thing), can_be(layout, limits, wishes), good_drawing(layout, limits, wishes),
+        who_gets(layout, limits, wishes, pixel), sure_pixels(layout, limits, wishes), never(layout, limits, wishes),
+        pixels_between(layout, limits, wishes, group, width), forced_by(layout, limits, wishes, pixel, pane),
+        clash(layout, limits, wishes), is_clash(layout, limits, wishes, thing)""",
+    "people": """by_borders(layout), by_running(layout), by_floors(layout), by_nests(layout, boxes), shown_as(layout, way),
+        troubles(layout, shown, off), first_trouble(layout, shown, off), worst_off(layout, shown),
+        falls_in_all(shown), quiet_to(shown), trembling_shares(way, panes, total, last)""",
+    "changes": """is_change(thing), changed(layout, change), drawing_behind(layout, drawing, change),
+        moved(layout, drawing, other), fewest_moved(layout, drawing, limits), least_moved(layout, drawing, limits),
+        is_least_moved(layout, drawing, limits, thing), can_stay(layout, drawing, limits, pixels),
+        must_move(layout, drawing, limits), stays_to(layout, drawing, limits), out_by(layout, drawing, limits)""",
+    "texts": """layout_told(layout), boxes_told(boxes), drawing_told(drawing), row_told(row), limits_told(limits),
+        shown_told(shown), read_layout(text), read_boxes(text), read_drawing(text), read_row(text),
+        read_limits(text), read_shown(text)""",
+    "judge": """is_claim(thing), is_so(claim), paper(claim), is_paper_for(claim, thing), is_paper_against(claim, thing),
+        verdicts(claims, things), comes_of(claim, claims), first_false(claims)""",
+    "desk": """desk(text), is_request(thing)""",
 }
+
+METHODS = """at(), pulls(), pulled(width), undone(), moved(low, high), panes_at(), pixels(group), off(group),
+    pane_at(place), picture()"""
 
 ERRORS = {"NoPlace": (LookupError, "place"), "BadText": (ValueError, "line"), "CanNot": (ValueError, None),
           "TooMuch": (ValueError, None), "Unfit": (ValueError, None)}
@@ -115,6 +135,17 @@ class Names(unittest.TestCase):
                     self.assertTrue(inspect.isfunction(function))
                     self.assertEqual(function.__module__, loaded.__name__)
                     self.assertEqual(list(inspect.signature(function).parameters), arguments)
+
+    def test_window(self):
+        kind = window.Window
+        self.assertTrue(inspect.isclass(kind))
+        self.assertEqual(kind.__module__, "stillpanes.window")
+        self.assertEqual(list(inspect.signature(kind).parameters), ["layout", "boxes", "drawing"])
+        for name, arguments in listed_functions(METHODS):
+            with self.subTest(name=name):
+                method = vars(kind)[name]
+                self.assertTrue(inspect.isfunction(method))
+                self.assertEqual(list(inspect.signature(method).parameters), ["self"] + arguments)
 
 
 class Files(unittest.TestCase):

@@ -5,26 +5,13 @@ import random
 import unittest
 
 from stillpanes import states
-from tests.reckon import (CAN_NOT, FIVE, LONE, POINT, THIRDS, TOO_MUCH, WRONG, answer, drawings_to, final_of, groups_of,
-                          in_drawing, layout_by, layouts_by, limits_by, no_place, refusal, spoiled, wide)
+from tests.reckon import (CAN_NOT, FIVE, LONE, POINT, THIRDS, TOO_MUCH, WRONG, answer, capped, drawings_to, final_of,
+                          groups_of, is_kept, layout_by, layouts_by, no_place, off_in, refusal, some_limits, spoiled)
 
 SMALL = layouts_by(140, 40, 4, 5, 5) + [THIRDS, LONE, POINT]
 PANES = tuple(((pane,), 1) for pane in range(5))
 WEST = tuple(sorted(PANES + (((0, 1), 1),)))
 BOTH = tuple(sorted(WEST + (((3, 4), 1),)))
-
-
-def off_at(layout, drawing, group, width):
-    return abs(in_drawing(drawing, group, width) * layout[0] - wide(layout, group, width))
-
-
-def off_in(layout, drawing, group):
-    return max(off_at(layout, drawing, group, width) for width in range(len(drawing) + 1))
-
-
-def is_kept(layout, drawing, limits):
-    """Whether a row of panes, of any length, keeps limits at each of its widths."""
-    return all(off_in(layout, drawing, group) <= off for group, off in limits)
 
 
 def state_of(layout, drawing):
@@ -40,27 +27,6 @@ def table_by_hand(layout, limits):
         rows = [row for row in rows if is_kept(layout, row, limits)]
         found.append(tuple(sorted({state_of(layout, row) for row in rows})))
     return tuple(found)
-
-
-def capped(caps, final):
-    """Panes that are nowhere wide, and one that is as wide as the window; LIMITS by which they have so many pixels."""
-    parts = 3
-    rows = ((0,) * (final + 1),) * len(caps) + (tuple(parts * width for width in range(final + 1)),)
-    return (parts, rows), tuple(((pane,), parts * cap) for pane, cap in enumerate(caps))
-
-
-def some_limits(draw, layout):
-    """LIMITS of some kinds: few, many, of lone panes, close ones and far ones."""
-    kind = draw.randrange(4)
-    parts, panes = layout[0], len(layout[1])
-    if kind == 0:
-        return limits_by(draw, layout)
-    if kind == 1:
-        return tuple(((pane,), draw.choice((parts - 1, parts // 2, parts // 3))) for pane in range(panes))
-    groups = groups_of(panes)
-    told = sorted(draw.sample(groups, min(len(groups), draw.randint(1, 6))))
-    return tuple((group, draw.choice((parts - 1, parts, 2 * parts, parts // 2) if kind == 2 else (0, 10 ** 9)))
-                 for group in told)
 
 
 class ByAllDrawings(unittest.TestCase):
