@@ -60,8 +60,9 @@ INTERFACE = {
         who_gets(layout, limits, wishes, pixel), sure_pixels(layout, limits, wishes), never(layout, limits, wishes),
         pixels_between(layout, limits, wishes, group, width), forced_by(layout, limits, wishes, pixel, pane),
         clash(layout, limits, wishes), is_clash(layout, limits, wishes, thing)""",
-    "people": """by_borders(layout), by_running(layout), by_floors(layout), by_nests(layout, boxes), shown_as(layout, way),
-        troubles(layout, shown, off), first_trouble(layout, shown, off), worst_off(layout, shown),
+    "people": """by_borders(layout), by_running(layout), by_floors(layout), by_nests(layout, boxes),
+        shown_as(layout, way), troubles(layout, shown, off), first_trouble(layout, shown, off),
+        worst_off(layout, shown),
         falls_in_all(shown), quiet_to(shown), trembling_shares(way, panes, total, last)""",
     "changes": """is_change(thing), changed(layout, change), drawing_behind(layout, drawing, change),
         moved(layout, drawing, other), fewest_moved(layout, drawing, limits), least_moved(layout, drawing, limits),
@@ -189,7 +190,8 @@ class Files(unittest.TestCase):
             for node in ast.walk(tree):
                 if isinstance(node, ast.FunctionDef):
                     own = {it.arg for it in node.args.args}
-                    own |= {it.id for it in ast.walk(node) if isinstance(it, ast.Name) and isinstance(it.ctx, ast.Store)}
+                    own |= {it.id for it in ast.walk(node)
+                            if isinstance(it, ast.Name) and isinstance(it.ctx, ast.Store)}
                     with self.subTest(name=name, function=node.name):
                         self.assertEqual(own & (imported | set(dir(builtins)) - {"_"}), set())
 

@@ -6,8 +6,8 @@ import unittest
 
 from stillpanes import wishes
 from tests.reckon import (CAN_NOT, FIVE, LONE, POINT, THIRDS, TOO_MUCH, WRONG, answer, capped, drawings_to, final_of,
-                          groups_of, in_drawing, is_kept, is_whole, layout_by, layouts_by, no_place, refusal, some_limits,
-                          spoiled)
+                          groups_of, in_drawing, is_kept, is_whole, layout_by, layouts_by, no_place, refusal,
+                          some_limits, spoiled)
 
 SMALL = layouts_by(170, 20, 4, 5, 5) + [THIRDS, LONE, POINT, (2, ((0, 1, 2), (0, 1, 2)))]
 LOOSE = (((0,), 2), ((1,), 2), ((2,), 2))
