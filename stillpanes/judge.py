@@ -7,8 +7,8 @@ from stillpanes.drawings import are_limits, is_drawing, is_row, keeps, off_of, r
 from stillpanes.errors import CanNot, Unfit
 from stillpanes.follow import are_followed, followed, follows, is_press, press
 from stillpanes.layouts import is_layout, is_split, split_group
-from stillpanes.shown import (are_levels, drawing_of, falls, fewest_falls, gapes, is_shown, least_shown, levels,
-                              shown_by, shown_keeps, trembles)
+from stillpanes.shown import are_levels, drawing_of, falls, fewest_falls, gapes, is_shown, least_shown, levels
+from stillpanes.shown import shown_by, shown_keeps, trembles
 from stillpanes.states import falls_at, is_table, least_drawing, table
 
 

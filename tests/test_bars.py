@@ -2,7 +2,6 @@
 
 import ast
 import functools
-import itertools
 import os
 import random
 import unittest

@@ -281,7 +281,8 @@ class Moves(unittest.TestCase):
             told = answer(changes.least_moved, layout, drawing, limits)
             self.assertIn(told, kept)
             self.assertEqual(moves_between(drawing, told), fewest)
-            for own in drawings_to(len(layout[1]), final_of(layout))[::7] + kept[:20] + [told]:
+            drawings = drawings_to(len(layout[1]), final_of(layout))
+            for own in drawings[::len(drawings) // 30 + 1] + kept[:12] + [told]:
                 is_one = own in kept and moves_between(drawing, own) == fewest
                 self.assertIs(answer(changes.is_least_moved, layout, drawing, limits, own), is_one)
         self.assertGreater(min(seen.values()), 15)
@@ -391,7 +392,7 @@ class Errors(unittest.TestCase):
                 self.assertEqual(refusal(function, layout, drawing, limits), TOO_MUCH)
             for pixels in ((), (0, 13), tuple(range(14))):
                 self.assertEqual(refusal(changes.can_stay, layout, drawing, limits, pixels), TOO_MUCH)
-            for thing in (None, drawing, list(drawing), "", ()):
+            for thing in (None, drawing, ()):
                 self.assertEqual(refusal(changes.is_least_moved, layout, drawing, limits, thing), TOO_MUCH)
         # this one looks at no STATES
         self.assertEqual(answer(changes.out_by, layout, (0,) * 14, limits), 13)

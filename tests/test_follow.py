@@ -13,10 +13,6 @@ SMALL = layouts_by(70, 14, 3, 4, 5) + [THIRDS, LONE, POINT]
 PAIR = ((0,), (1,))
 
 
-def group_of(split):
-    return tuple(sorted(pane for own in split for pane in own))
-
-
 def together(rows):
     return tuple(map(sum, zip(*rows)))
 

@@ -198,6 +198,10 @@ class Judged(unittest.TestCase):
             for groups in (((0,), (1,), (2,)), ((0, 1), (2,)), ((0, 2),)):
                 limits = tuple((group, off) for group in groups)
                 cls.claims += [("keeps", THIRDS, limits), ("moves", THIRDS, (0, 1, 2), limits, 2)]
+        # tables that tremble and never gape, that gape and never tremble, that do both
+        cls.claims += [("still", THIRDS, own) for own in (
+            ((0, 1, 0, 1), (0, 0, 1, 1), (0, 0, 1, 1)), ((0, 0, 0, 1), (0, 0, 1, 0), (0, 1, 1, 2)),
+            ((0, 0, 1, 1),) * 3, ((1, 1, 1, 1), (0, 0, 1, 1), (0, 0, 0, 1)), ((0, 1, 0, 1),) * 3)]
         for number in range(3):
             cls.claims += [("falls", FIVE, BOTH, number), ("falls", FIVE, BOTH[1:], number)]
             cls.claims += [("moves", FIVE, (0,) * 6, BOTH[:-1], number + 3)]
@@ -236,7 +240,7 @@ class Judged(unittest.TestCase):
         words = set()
         for claim, paper in zip(told, papers):
             bent = [0, False, ()] if paper is None else spoiled(paper)
-            things = draw.sample(WRONG, 12) + draw.sample(papers, 12) + draw.sample(bent, min(40, len(bent))) + [paper]
+            things = draw.sample(WRONG, 6) + draw.sample(papers, 6) + draw.sample(bent, min(24, len(bent))) + [paper]
             for thing in things + self.own_things(claim):
                 word = verdict_by_hand(claim, thing)
                 words.add((claim[0], word))
@@ -248,7 +252,7 @@ class Judged(unittest.TestCase):
         """Things that papers of just this kind could be: all small ones."""
         layout = claim[1]
         drawings = drawings_to(len(layout[1]), final_of(layout))
-        drawings = drawings[::len(drawings) // 60 + 1]
+        drawings = drawings[::len(drawings) // 30 + 1]
         if claim[0] == "keeps":
             return drawings + [None, table_by_hand(layout, claim[2])]
         if claim[0] == "moves":
@@ -460,6 +464,16 @@ class ComesOf(unittest.TestCase):
             some = tuple(draw.choices(claims, k=draw.randint(0, 4)))
             claim = draw.choice(claims)
             self.assertIs(answer(judge.comes_of, claim, some), any(claim in behind[own] for own in some))
+
+    def test_without_pixels(self):
+        # a DRAWING () and LIMITS () look alike
+        keeps, moves = ("keeps", POINT, ()), ("moves", POINT, (), (), 0)
+        falls = ("falls", POINT, (), 0)
+        for own, claim, told in ((keeps, moves, False), (falls, moves, False), (moves, keeps, True),
+                                 (moves, falls, True), (keeps, falls, True), (falls, keeps, True),
+                                 (("deep", POINT, (), ()), keeps, False), (keeps, ("deep", POINT, (), ()), False),
+                                 (moves, moves[:4] + (1,), True)):
+            self.assertIs(answer(judge.comes_of, claim, (own,)), told, (own, claim))
 
     def test_what_comes_of_what_is_so_is_so(self):
         draw = random.Random(226)
