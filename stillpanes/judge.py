@@ -6,7 +6,7 @@ from stillpanes.changes import fewest_moved, least_moved, moved
 from stillpanes.drawings import are_limits, is_drawing, is_row, keeps, off_of, row_of
 from stillpanes.errors import CanNot, Unfit
 from stillpanes.follow import are_followed, followed, follows, is_press, press
-from stillpanes.layouts import is_layout, is_split, split_group
+from stillpanes.layouts import is_group, is_layout, is_split, split_group
 from stillpanes.shown import are_levels, drawing_of, falls, fewest_falls, gapes, is_shown, least_shown, levels
 from stillpanes.shown import shown_by, shown_keeps, trembles
 from stillpanes.states import falls_at, is_table, least_drawing, table
@@ -34,9 +34,11 @@ def is_claim(thing):
 
 def _is_split(layout, thing):
     """Whether thing is a SPLIT of some GROUP."""
-    if not isinstance(thing, tuple) or not thing or not all([are_numbers(own) for own in thing]):
+    if not isinstance(thing, tuple) or not all([is_group(layout, own) for own in thing]):
         return False
-    return is_split(layout, split_group(thing), thing)
+    # a pane that two of them have stands twice in what they come to: that is no GROUP
+    group = split_group(thing)
+    return is_group(layout, group) and is_split(layout, group, thing)
 
 
 def _checked(claim):

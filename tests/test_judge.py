@@ -40,7 +40,7 @@ def is_claim_by_hand(thing):
         panes = [pane for own in told[0] for pane in own]
         if not panes or not all(map(is_whole, panes)):
             return False
-        return (split_by_hand(len(layout[1]), sorted(panes), told[0]) and is_row_by_hand(layout, told[1])
+        return (split_by_hand(len(layout[1]), sorted(set(panes)), told[0]) and is_row_by_hand(layout, told[1])
                 and is_whole(told[2]) and told[2] >= 0)
     checks = {"keeps": (are_limits_by_hand,), "moves": (is_drawing_by_hand, are_limits_by_hand, is_number_by_hand),
               "falls": (are_limits_by_hand, is_number_by_hand), "still": (is_shown_by_hand,),
@@ -341,6 +341,19 @@ class Claims(unittest.TestCase):
             self.assertIs(answer(judge.is_claim, thing), is_one, repr(thing)[:200])
         self.assertEqual(told, {True, False})
 
+    def test_the_split_that_is_followed(self):
+        """All tuples of GROUPS, with and without common panes."""
+        splits = {split for group in groups_of(3) for split in splits_of(group)}
+        for many in range(4):
+            for split in itertools.product(groups_of(3), repeat=many):
+                claim = ("follows", THIRDS, split, (0, 0, 1, 2), 1)
+                self.assertIs(judge.is_claim(claim), split in splits, split)
+                self.assertIs(is_claim_by_hand(claim), split in splits, split)
+        for split in (((0, 1, 2, 3, 4), (4,)), ((0, 1), (0, 1, 2)), ((0, 3), (1, 3)), ((0,), (1, 2), (2, 3))):
+            self.assertIs(answer(judge.is_claim, ("follows", FIVE, split, (0,) * 7, 0)), False)
+        for split in (((0, 1, 2, 3, 4),), ((0, 3), (1, 4)), ((0,), (1, 2), (3, 4)), ((2,),)):
+            self.assertIs(answer(judge.is_claim, ("follows", FIVE, split, (0,) * 7, 0)), True)
+
     def test_each_word_with_what_belongs_to_others(self):
         for word in WORDS:
             for own in (FOLLOW + (2,), ("keeps", THIRDS, LOOSE), ("moves", THIRDS, (0, 1, 2), LOOSE, 1),
@@ -355,6 +368,8 @@ class Unfitting(unittest.TestCase):
         heavy = ("keeps", *MANY_STATES)
         for claim in (None, 7, "keeps", (), ("keeps",), ("keeps", THIRDS), ("keeps", THIRDS, (((0,), -1),)),
                       ("falls", THIRDS, CLOSE), ("moves", THIRDS, (0, 1), LOOSE, 1), ("follows", THIRDS, (), (0,), 1),
+                      ("follows", THIRDS, ((0,), (0, 1)), (0, 0, 1, 2), 1),
+                      ("follows", THIRDS, ((0, 1), (1, 2)), (0, 0, 1, 2), 9),
                       ("deep", THIRDS, ((0, 1),), (0, 1, 3)), ("keeps", (3, ((0, 1, 2),)), ()), ("KEEPS", THIRDS, ())):
             self.assertEqual(refusal(judge.is_so, claim), UNFIT)
             self.assertEqual(refusal(judge.paper, claim), UNFIT)

@@ -1,5 +1,6 @@
 """Section 4: layouts, and what is made of them."""
 
+import itertools
 import random
 import unittest
 from fractions import Fraction
@@ -34,10 +35,12 @@ def group_by_hand(panes, thing):
 
 
 def split_by_hand(panes, group, thing):
-    """Whether thing is a SPLIT of group."""
+    """Whether thing is a SPLIT of group, word by word."""
     if type(thing) is not tuple or not all(group_by_hand(panes, own) for own in thing):
         return False
-    return list(thing) == sorted(set(thing)) and sorted(pane for own in thing for pane in own) == list(group)
+    if any(set(one) & set(two) for one, two in itertools.combinations(thing, 2)):
+        return False
+    return list(thing) == sorted(set(thing)) and set(group) == {pane for own in thing for pane in own}
 
 
 def shares_of(layout):
@@ -104,6 +107,13 @@ class IsSplit(unittest.TestCase):
             for other in groups_of(3):
                 for split in splits_of(other):
                     self.assertIs(answer(layouts.is_split, THIRDS, group, split), group == other)
+
+    def test_all_tuples_of_groups(self):
+        for many in range(4):
+            for thing in itertools.product(groups_of(3), repeat=many):
+                for group in groups_of(3):
+                    self.assertIs(layouts.is_split(THIRDS, group, thing), thing in splits_of(group), thing)
+                    self.assertIs(split_by_hand(3, group, thing), thing in splits_of(group), thing)
 
     def test_wrong_things(self):
         for group, split in (((0,), ((0,),)), ((0, 1), ((0,), (1,))), ((0, 1, 2), ((0, 2), (1,))), ((1, 2), ((1, 2),))):
